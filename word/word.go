@@ -70,7 +70,7 @@ func Text(l []api.Sym, w []int) string {
 		if i > 0 {
 			b.WriteByte(' ')
 		}
-		write(&b, at(l, place))
+		write(&b, symAt(l, place))
 	}
 	return b.String()
 }
@@ -87,8 +87,8 @@ func write(b *strings.Builder, s api.Sym) {
 	}
 }
 
-// at is the symbol at a place of l. A place that l has not is a symbol of no kind, so that a word that may not be does no harm.
-func at(l []api.Sym, place int) api.Sym {
+// symAt is the symbol at a place of l. A place that l has not is a symbol of no kind, so that a word that may not be does no harm.
+func symAt(l []api.Sym, place int) api.Sym {
 	if place < 0 || place >= len(l) {
 		return api.Sym{}
 	}
@@ -101,7 +101,7 @@ func Match(l []api.Sym, w []int) []int {
 	var open []int
 	for i, place := range w {
 		m[i] = none
-		switch at(l, place).Kind {
+		switch symAt(l, place).Kind {
 		case api.Opens:
 			open = append(open, i)
 		case api.Closes:
@@ -118,7 +118,7 @@ func Match(l []api.Sym, w []int) []int {
 func Deep(l []api.Sym, w []int) int {
 	now, most := 0, 0
 	for _, place := range w {
-		switch at(l, place).Kind {
+		switch symAt(l, place).Kind {
 		case api.Opens:
 			now++
 			most = max(most, now)
@@ -132,7 +132,7 @@ func Deep(l []api.Sym, w []int) int {
 // Whole tells whether all that opens and closes has a partner.
 func Whole(l []api.Sym, w []int) bool {
 	for i, partner := range Match(l, w) {
-		kind := at(l, w[i]).Kind
+		kind := symAt(l, w[i]).Kind
 		if partner == none && (kind == api.Opens || kind == api.Closes) {
 			return false
 		}
