@@ -61,7 +61,8 @@ func (r *run) lay(e api.Expr, next int) int {
 		return first
 	case api.EStar:
 		around := r.add(step{kind: forks, fork: next})
-		r.steps[around].next = r.lay(e.L[0], around)
+		first := r.lay(e.L[0], around)
+		r.steps[around].next = first // a line of its own, as lay moves the steps
 		return around
 	}
 	return nowhere

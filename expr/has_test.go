@@ -36,6 +36,8 @@ func TestHas(t *testing.T) {
 		{"1*", [][]int{nil}, [][]int{{x}}},
 		{"x** a", [][]int{{a}, {x, a}, {x, x, a}}, [][]int{nil, {x}}},
 		{"( x a )*", [][]int{nil, {x, a}, {x, a, x, a}}, [][]int{{x}, {x, a, x}, {a, x}}},
+		{"( x x )*", [][]int{nil, {x, x}, {x, x, x, x}}, [][]int{{x}, {x, x, x}}},
+		{"<a[ x* ]a> | 1", [][]int{nil, {openA, shutA}, {openA, x, x, shutA}}, [][]int{{x}, {x, x}, {openA, x, x}}},
 		{"( x* a* )*", [][]int{nil, {a}, {x}, {a, a, x, a, x, x}}, [][]int{{y}, {x, y, x}}},
 		{"( 1 | x )* a", [][]int{{a}, {x, x, a}}, [][]int{nil, {x}}},
 		{"<a[ x ]a>", [][]int{{openA, x, shutA}}, [][]int{nil, {openA, shutA}, {openA, x}, {x, shutA}, {openA, x, shutZ}, {openB, x, shutA}, {x}, {openA, x, x, shutA}, {openA, x, shutA, shutA}}},
