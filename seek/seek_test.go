@@ -273,8 +273,8 @@ func TestLongWords(t *testing.T) {
 	for _, n := range []int{50, 4000, 9998, 9999, 10000} {
 		isShortest(t, "a long word", l, grown(n), n)
 	}
-	// a goes around by 67 as it opens, by 73 as it closes; where nothing is left it must be at 1 of these.
-	a := api.Auto{N: 141, G: 1, Init: []int{0}, Final: []int{140}, Inners: []api.Inner{{From: 0, Sym: y, To: 67}}, Closes: []api.Close{{From: 68, Sym: shutB, Top: 0, To: 140}}}
+	// a goes around by 67 as it opens, by 73 as it closes; where nothing is left it must be at 6 of these.
+	a := api.Auto{N: 141, G: 1, Init: []int{0}, Final: []int{140}, Inners: []api.Inner{{From: 0, Sym: y, To: 67}}, Closes: []api.Close{{From: 67 + 6, Sym: shutB, Top: 0, To: 140}}}
 	for q := range 67 {
 		a.Opens = append(a.Opens, api.Open{From: q, Sym: openA, To: (q + 1) % 67, Push: 1})
 	}
@@ -282,11 +282,11 @@ func TestLongWords(t *testing.T) {
 		a.Closes = append(a.Closes, api.Close{From: 67 + q, Sym: shutA, Top: 1, To: 67 + (q+1)%73})
 	}
 	deep := 0
-	for deep%67 != 0 || deep%73 != 1 {
+	for deep%67 != 0 || deep%73 != 6 {
 		deep++
 	}
 	isShortest(t, "a deep word", l, a, 2*deep+2)
-	if w, _ := seek.Word(l, a); word.Deep(l, w) != deep || deep < 800 {
+	if w, _ := seek.Word(l, a); word.Deep(l, w) != deep || deep != 4824 {
 		t.Errorf("P1201: Word is %d deep, not %d", word.Deep(l, w), deep)
 	}
 }
